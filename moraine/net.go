@@ -1,0 +1,70 @@
+package moraine
+
+import (
+	"moraine/api"
+	"moraine/router"
+	"moraine/undo"
+)
+
+// has tells if there is a router r; a nil Net has none.
+func (w *Net) has(r int) bool {
+	return w != nil && r >= 0 && r < len(w.routers)
+}
+
+// checkUp refuses a router that is not there, or is down.
+func (w *Net) checkUp(r int) api.Errno {
+	if !w.has(r) {
+		return api.ErrRouter
+	}
+	if w.routers[r].Down {
+		return api.ErrDown
+	}
+	return api.OK
+}
+
+// checkPair refuses what are not two routers.
+func (w *Net) checkPair(a int, b int) api.Errno {
+	if !w.has(a) || !w.has(b) {
+		return api.ErrRouter
+	}
+	if a == b {
+		return api.ErrSame
+	}
+	return api.OK
+}
+
+// checkAsk refuses to ask router r for what it knows of d.
+func (w *Net) checkAsk(r int, d int) api.Errno {
+	if e := w.checkPair(r, d); e != api.OK {
+		return e
+	}
+	return w.checkUp(r)
+}
+
+// send lays the message of r behind what waits on each of its links; a full link loses it.
+func (w *Net) send(r int, message router.Message) {
+	for b, cost := range w.costs[r] {
+		if cost > 0 && len(w.waiting[r][b]) < api.MaxWaiting {
+			w.waiting[r][b] = append(w.waiting[r][b], message)
+		}
+	}
+}
+
+// saving does work, which saves; if the disk fails, the changes that work laid down are taken back.
+func saving(work func(changes *undo.Log)) (answer api.Errno) {
+	var changes undo.Log
+	defer func() {
+		failure := recover()
+		if failure == nil {
+			return
+		}
+		if _, isDisk := failure.(router.DiskFailure); !isDisk {
+			// A fault of the program must not pass for a fault of the disk.
+			panic(failure)
+		}
+		changes.TakeBack()
+		answer = api.ErrDisk
+	}()
+	work(&changes)
+	return api.OK
+}
