@@ -53,6 +53,21 @@ func bestIs(t *testing.T, w *Net, r int, d int, want api.Best) {
 	}
 }
 
+func traceIs(t *testing.T, w *Net, r int, d int, want ...int) {
+	t.Helper()
+	if way, e := w.Trace(r, d); !slices.Equal(way, want) || e != api.OK {
+		t.Errorf("Trace(%d, %d) = %v, %d, want %v", r, d, way, e, want)
+	}
+}
+
+// tell lets a dump, and b get that message, whatever else waits ahead of it.
+func tell(t *testing.T, w *Net, a int, b int) {
+	t.Helper()
+	answers(t, "Dump", w.Dump(a), api.OK)
+	n, _ := w.Waiting(a, b)
+	answers(t, "Deliver", w.Deliver(a, b, n-1), api.OK)
+}
+
 var none = api.Route{Next: -1}
 
 // copyOf shares nothing with w.
@@ -74,7 +89,7 @@ func unchanged(t *testing.T, what string, w *Net, before *Net) {
 	}
 }
 
-// know gives a router a route, as long as none can come by a message.
+// know gives a router a route that no message told, so that each of its fields can be chosen.
 func know(w *Net, r int, d int, route api.Route) { w.routers[r].Routes[d] = route }
 
 // full is a net in which something of each kind is.

@@ -63,7 +63,16 @@ func (w *Net) Waiting(a int, b int) (int, api.Errno) {
 }
 
 // Deliver lets a message arrive (P7).
-func (w *Net) Deliver(a int, b int, k int) api.Errno { return api.OK }
+func (w *Net) Deliver(a int, b int, k int) api.Errno {
+	if e := w.checkMessage(a, b, k); e != api.OK {
+		return e
+	}
+	message := w.takeOff(a, b, k)
+	if w.arrives(a, b) {
+		w.routers[b].Hear(b, a, message, w.costs[b])
+	}
+	return api.OK
+}
 
 // Lose drops a message (P8).
 func (w *Net) Lose(a int, b int, k int) api.Errno { return api.OK }
@@ -75,7 +84,12 @@ func (w *Net) Again(a int, b int, k int) api.Errno { return api.OK }
 func (w *Net) Tick(r int) api.Errno { return api.OK }
 
 // Bump gives a router's own tellings a new number (P9).
-func (w *Net) Bump(r int) api.Errno { return api.OK }
+func (w *Net) Bump(r int) api.Errno {
+	if e := w.checkUp(r); e != api.OK {
+		return e
+	}
+	return w.routers[r].Bump()
+}
 
 // Fail lets a router's disk fail (P10).
 func (w *Net) Fail(r int, times int) api.Errno { return api.OK }
@@ -103,4 +117,19 @@ func (w *Net) Best(r int, d int) (api.Best, api.Errno) {
 }
 
 // Trace tells which way a packet goes (P12).
-func (w *Net) Trace(r int, d int) ([]int, api.Errno) { return nil, api.OK }
+func (w *Net) Trace(r int, d int) ([]int, api.Errno) {
+	if !w.has(r) || !w.has(d) {
+		return nil, api.ErrRouter
+	}
+	way := []int{r}
+	// A way without a circle has fewer steps than there are routers; the count makes the call end on any other, too.
+	for range w.routers {
+		next := w.next(r, d)
+		if next < 0 {
+			break
+		}
+		way = append(way, next)
+		r = next
+	}
+	return way, api.OK
+}

@@ -15,12 +15,16 @@ func TestP1NoNetHasNoRouters(t *testing.T) {
 	for _, w := range []*Net{nil, {}} {
 		answers(t, "Link", w.Link(0, 1, 1), api.ErrRouter)
 		answers(t, "Dump", w.Dump(0), api.ErrRouter)
+		answers(t, "Deliver", w.Deliver(0, 1, 0), api.ErrRouter)
+		answers(t, "Bump", w.Bump(0), api.ErrRouter)
 		_, e := w.Waiting(0, 1)
 		answers(t, "Waiting", e, api.ErrRouter)
 		_, e = w.Route(0, 1)
 		answers(t, "Route", e, api.ErrRouter)
 		_, e = w.Best(0, 1)
 		answers(t, "Best", e, api.ErrRouter)
+		_, e = w.Trace(0, 0)
+		answers(t, "Trace", e, api.ErrRouter)
 	}
 }
 
@@ -30,8 +34,11 @@ func TestP2NetsDoNotChangeOneAnother(t *testing.T) {
 	answers(t, "Link", w.Link(0, 1, 0), api.OK)
 	answers(t, "Link", w.Link(1, 2, 9), api.OK)
 	for r := range 5 {
+		answers(t, "Bump", w.Bump(r), api.OK)
 		answers(t, "Dump", w.Dump(r), api.OK)
 	}
+	tell(t, w, 2, 0)
+	answers(t, "Deliver", w.Deliver(2, 0, 0), api.OK)
 	unchanged(t, "another net", v, before)
 }
 

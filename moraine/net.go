@@ -1,6 +1,8 @@
 package moraine
 
 import (
+	"slices"
+
 	"moraine/api"
 	"moraine/router"
 	"moraine/undo"
@@ -39,6 +41,37 @@ func (w *Net) checkAsk(r int, d int) api.Errno {
 		return e
 	}
 	return w.checkUp(r)
+}
+
+// checkMessage refuses what is not the index k of a message on the link from a to b.
+func (w *Net) checkMessage(a int, b int, k int) api.Errno {
+	if e := w.checkPair(a, b); e != api.OK {
+		return e
+	}
+	if k < 0 || k >= len(w.waiting[a][b]) {
+		return api.ErrNone
+	}
+	return api.OK
+}
+
+// takeOff takes the message k off the link from a to b.
+func (w *Net) takeOff(a int, b int, k int) router.Message {
+	message := w.waiting[a][b][k]
+	w.waiting[a][b] = slices.Delete(w.waiting[a][b], k, k+1)
+	return message
+}
+
+// arrives tells if a message from a that is taken off comes to b, or is lost.
+func (w *Net) arrives(a int, b int) bool {
+	return w.costs[a][b] > 0 && !w.routers[b].Down
+}
+
+// next is where a packet to d goes on from r, or -1 if it ends there.
+func (w *Net) next(r int, d int) int {
+	if r == d || w.routers[r].Down {
+		return -1
+	}
+	return w.routers[r].Routes[d].Next
 }
 
 // send lays the message of r behind what waits on each of its links; a full link loses it.

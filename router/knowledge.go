@@ -34,21 +34,27 @@ func (k *Knowledge) HasRoute(d int) bool { return k.Routes[d].Next >= 0 }
 // DropBy drops the routes that go by the router next.
 func (k *Knowledge) DropBy(next int) {
 	for d := range k.Routes {
-		if k.Routes[d].Next == next {
-			k.Routes[d] = noRoute()
-		}
+		k.dropIfBy(d, next)
 	}
 }
 
-// total is how far d is by the route to it, which there must be.
-func (k *Knowledge) total(d int, costs Costs) int {
-	return k.Routes[d].Metric + costs[k.Routes[d].Next]
+// dropIfBy drops the route to d, if it goes by the router next.
+func (k *Knowledge) dropIfBy(d int, next int) {
+	if k.Routes[d].Next == next {
+		k.Routes[d] = noRoute()
+	}
+}
+
+// telling is what the router itself tells of d by its route to it, which there must be: the metric is the route's total.
+func (k *Knowledge) telling(d int, costs Costs) Telling {
+	route := k.Routes[d]
+	return Telling{Seq: route.Seq, Metric: route.Metric}.farther(costs[route.Next])
 }
 
 // dropFar drops the routes that became too long.
 func (k *Knowledge) dropFar(costs Costs, changes *undo.Log) {
 	for d := range k.Routes {
-		if k.HasRoute(d) && k.total(d, costs) > api.MaxMetric {
+		if k.HasRoute(d) && k.telling(d, costs).Metric > api.MaxMetric {
 			undo.Set(changes, &k.Routes[d], noRoute())
 		}
 	}
@@ -62,7 +68,7 @@ func (k *Knowledge) tellings(self int, costs Costs) Message {
 		case d == self:
 			message[d] = Telling{Seq: k.Seq}
 		case k.HasRoute(d):
-			message[d] = Telling{Seq: k.Routes[d].Seq, Metric: k.total(d, costs)}
+			message[d] = k.telling(d, costs)
 		default:
 			message[d] = Nothing()
 		}

@@ -1,7 +1,10 @@
 // Package router: one router, what it knows and what it saves.
 package router
 
-import "moraine/undo"
+import (
+	"moraine/api"
+	"moraine/undo"
+)
 
 // Router is made of what it knows and of its disk.
 type Router struct {
@@ -24,4 +27,13 @@ func (r *Router) Dump(self int, costs Costs, changes *undo.Log) Message {
 	r.raiseBests(self, message, changes)
 	r.Save(r.Knowledge)
 	return message
+}
+
+// Bump makes what the router tells of itself newer than all that it told; it is refused, if its seq is the last one.
+func (r *Router) Bump() api.Errno {
+	if r.Seq == api.MaxSeq {
+		return api.ErrMany
+	}
+	r.Seq++
+	return api.OK
 }

@@ -20,3 +20,8 @@ func (t Telling) BetterThan(u Telling) bool {
 	}
 	return t.Metric < u.Metric
 }
+
+// farther is t as it is at the other end of a link of that cost.
+func (t Telling) farther(cost int) Telling {
+	return Telling{Seq: t.Seq, Metric: t.Metric + cost}
+}
