@@ -75,13 +75,30 @@ func (w *Net) Deliver(a int, b int, k int) api.Errno {
 }
 
 // Lose drops a message (P8).
-func (w *Net) Lose(a int, b int, k int) api.Errno { return api.OK }
+func (w *Net) Lose(a int, b int, k int) api.Errno {
+	if e := w.checkMessage(a, b, k); e != api.OK {
+		return e
+	}
+	w.takeOff(a, b, k)
+	return api.OK
+}
 
 // Again doubles a message (P8).
-func (w *Net) Again(a int, b int, k int) api.Errno { return api.OK }
+func (w *Net) Again(a int, b int, k int) api.Errno {
+	if e := w.checkMessage(a, b, k); e != api.OK {
+		return e
+	}
+	return w.putBehind(a, b, w.waiting[a][b][k])
+}
 
 // Tick lets time go by for a router (P9).
-func (w *Net) Tick(r int) api.Errno { return api.OK }
+func (w *Net) Tick(r int) api.Errno {
+	if e := w.checkUp(r); e != api.OK {
+		return e
+	}
+	w.routers[r].Tick()
+	return api.OK
+}
 
 // Bump gives a router's own tellings a new number (P9).
 func (w *Net) Bump(r int) api.Errno {

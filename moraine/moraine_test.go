@@ -16,6 +16,9 @@ func TestP1NoNetHasNoRouters(t *testing.T) {
 		answers(t, "Link", w.Link(0, 1, 1), api.ErrRouter)
 		answers(t, "Dump", w.Dump(0), api.ErrRouter)
 		answers(t, "Deliver", w.Deliver(0, 1, 0), api.ErrRouter)
+		answers(t, "Lose", w.Lose(0, 1, 0), api.ErrRouter)
+		answers(t, "Again", w.Again(0, 1, 0), api.ErrRouter)
+		answers(t, "Tick", w.Tick(0), api.ErrRouter)
 		answers(t, "Bump", w.Bump(0), api.ErrRouter)
 		_, e := w.Waiting(0, 1)
 		answers(t, "Waiting", e, api.ErrRouter)
@@ -39,6 +42,9 @@ func TestP2NetsDoNotChangeOneAnother(t *testing.T) {
 	}
 	tell(t, w, 2, 0)
 	answers(t, "Deliver", w.Deliver(2, 0, 0), api.OK)
+	answers(t, "Again", w.Again(2, 1, 0), api.OK)
+	answers(t, "Lose", w.Lose(2, 1, 1), api.OK)
+	answers(t, "Tick", w.Tick(0), api.OK)
 	unchanged(t, "another net", v, before)
 }
 

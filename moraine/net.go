@@ -74,11 +74,21 @@ func (w *Net) next(r int, d int) int {
 	return w.routers[r].Routes[d].Next
 }
 
-// send lays the message of r behind what waits on each of its links; a full link loses it.
+// putBehind lets a message wait behind the others on the link from a to b, which refuses it if it is full.
+func (w *Net) putBehind(a int, b int, message router.Message) api.Errno {
+	if len(w.waiting[a][b]) >= api.MaxWaiting {
+		return api.ErrMany
+	}
+	w.waiting[a][b] = append(w.waiting[a][b], message)
+	return api.OK
+}
+
+// send lets the message of r wait on each of its links.
 func (w *Net) send(r int, message router.Message) {
 	for b, cost := range w.costs[r] {
-		if cost > 0 && len(w.waiting[r][b]) < api.MaxWaiting {
-			w.waiting[r][b] = append(w.waiting[r][b], message)
+		if cost > 0 {
+			// A full link loses the message, and the sender does not learn of that: it is no error of Dump.
+			w.putBehind(r, b, message)
 		}
 	}
 }

@@ -103,21 +103,29 @@ func noCircle(t *testing.T, w *Net) {
 func step(w *Net, rng *rand.Rand) {
 	n := len(w.routers)
 	a, b := rng.Intn(n), rng.Intn(n)
-	switch rng.Intn(12) {
+	k := rng.Intn(api.MaxWaiting)
+	if waiting, _ := w.Waiting(a, b); waiting > 0 {
+		k = rng.Intn(waiting)
+	}
+	switch rng.Intn(16) {
 	case 0:
 		w.Link(a, b, rng.Intn(4)*rng.Intn(4))
 	case 1:
 		w.Bump(a)
-	case 2, 3, 4, 5:
+	case 2:
+		w.Tick(a)
+	case 3:
+		w.Lose(a, b, k)
+	case 4, 5:
+		w.Again(a, b, k)
+	case 6, 7, 8, 9:
 		w.Dump(a)
 	default:
-		if k, _ := w.Waiting(a, b); k > 0 {
-			w.Deliver(a, b, rng.Intn(k))
-		}
+		w.Deliver(a, b, k)
 	}
 }
 
-func TestP7NoCircleInAnyOrder(t *testing.T) {
+func TestNoCircleInAnyOrder(t *testing.T) {
 	for seed := range int64(200) {
 		rng := rand.New(rand.NewSource(seed))
 		w := net(t, 2+rng.Intn(4))

@@ -45,6 +45,19 @@ func (k *Knowledge) dropIfBy(d int, next int) {
 	}
 }
 
+// Tick makes all routes older, and drops those of which nothing was heard for too long.
+func (k *Knowledge) Tick() {
+	for d := range k.Routes {
+		if !k.HasRoute(d) {
+			continue
+		}
+		k.Routes[d].Age++
+		if k.Routes[d].Age >= api.MaxAge {
+			k.Routes[d] = noRoute()
+		}
+	}
+}
+
 // telling is what the router itself tells of d by its route to it, which there must be: the metric is the route's total.
 func (k *Knowledge) telling(d int, costs Costs) Telling {
 	route := k.Routes[d]

@@ -64,6 +64,23 @@ func TestDropByLeavesOtherRoutes(t *testing.T) {
 	}
 }
 
+func TestTick(t *testing.T) {
+	k := Blank()
+	k.Seq = 3
+	k.Routes[1] = api.Route{Next: 1, Seq: 2}
+	k.Routes[2] = api.Route{Next: 1, Seq: 4, Metric: 2, Age: api.MaxAge - 2, Stale: 1}
+	k.Routes[3] = api.Route{Next: 3, Seq: 5, Metric: 1, Age: api.MaxAge - 1}
+	k.Bests[3] = Telling{5, 2}
+	want := k
+	k.Tick()
+	want.Routes[1].Age = 1
+	want.Routes[2].Age = api.MaxAge - 1 // it stays stale
+	want.Routes[3] = noRoute()
+	if k != want {
+		t.Errorf("after Tick: %v, want %v", k, want)
+	}
+}
+
 func TestDumpDropsWhatIsTooFar(t *testing.T) {
 	r := Fresh()
 	r.Routes[1] = api.Route{Next: 1, Seq: 3, Metric: api.MaxMetric - 4}
