@@ -9,7 +9,7 @@ import (
 
 func TestP9BumpRefusals(t *testing.T) {
 	w := full(t)
-	w.routers[1].Down = true
+	answers(t, "Crash", w.Crash(1), api.OK)
 	w.routers[1].Seq = api.MaxSeq
 	w.routers[2].Seq = api.MaxSeq
 	before := copyOf(w)

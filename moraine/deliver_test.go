@@ -11,7 +11,7 @@ import (
 
 func TestP7Refusals(t *testing.T) {
 	w := full(t)
-	w.routers[1].Down = true
+	answers(t, "Crash", w.Crash(1), api.OK)
 	before := copyOf(w)
 	for _, s := range strange {
 		for _, k := range []int{0, 1, -1} {
@@ -63,7 +63,7 @@ func TestP7TakesOffOneOfTheFullLink(t *testing.T) {
 
 func TestP7LostIfDown(t *testing.T) {
 	w := full(t)
-	w.routers[1].Down = true
+	answers(t, "Crash", w.Crash(1), api.OK)
 	want := copyOf(w)
 	want.waiting[0][1] = []router.Message{}
 	answers(t, "Deliver", w.Deliver(0, 1, 0), api.OK)
@@ -73,7 +73,7 @@ func TestP7LostIfDown(t *testing.T) {
 func TestP7ArrivesThoughTheSenderIsDown(t *testing.T) {
 	w := net(t, 2, [3]int{0, 1, 3})
 	answers(t, "Dump", w.Dump(0), api.OK)
-	w.routers[0].Down = true
+	answers(t, "Crash", w.Crash(0), api.OK)
 	answers(t, "Deliver", w.Deliver(0, 1, 0), api.OK)
 	routeIs(t, w, 1, 0, api.Route{Next: 0})
 }

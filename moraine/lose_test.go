@@ -33,7 +33,7 @@ func numbered(t *testing.T, messages int) *Net {
 
 func TestP8Refusals(t *testing.T) {
 	w := full(t)
-	w.routers[1].Down = true
+	answers(t, "Crash", w.Crash(1), api.OK)
 	for range api.MaxWaiting {
 		answers(t, "Dump", w.Dump(2), api.OK)
 	}
@@ -153,7 +153,7 @@ func TestP8WhereTheLinkIsCutOrOneIsDown(t *testing.T) {
 		if down < 0 {
 			answers(t, "Link", w.Link(0, 1, 0), api.OK)
 		} else {
-			w.routers[down].Down = true
+			answers(t, "Crash", w.Crash(down), api.OK)
 		}
 		answers(t, "Again", w.Again(0, 1, 0), api.OK)
 		seqsWait(t, w, 0, 1, 0)

@@ -109,13 +109,37 @@ func (w *Net) Bump(r int) api.Errno {
 }
 
 // Fail lets a router's disk fail (P10).
-func (w *Net) Fail(r int, times int) api.Errno { return api.OK }
+func (w *Net) Fail(r int, times int) api.Errno {
+	if !w.has(r) {
+		return api.ErrRouter
+	}
+	if times < 0 || times > api.MaxFails {
+		return api.ErrMany
+	}
+	w.routers[r].Fails = times
+	return api.OK
+}
 
 // Crash lets a router go down (P10).
-func (w *Net) Crash(r int) api.Errno { return api.OK }
+func (w *Net) Crash(r int) api.Errno {
+	if e := w.checkUp(r); e != api.OK {
+		return e
+	}
+	w.routers[r].Crash()
+	return api.OK
+}
 
 // Restart lets a router come up again (P10).
-func (w *Net) Restart(r int) api.Errno { return api.OK }
+func (w *Net) Restart(r int) api.Errno {
+	if !w.has(r) {
+		return api.ErrRouter
+	}
+	if !w.routers[r].Down {
+		return api.ErrUp
+	}
+	w.routers[r].Restart(w.costs[r])
+	return api.OK
+}
 
 // Route tells how a router reaches another one (P11).
 func (w *Net) Route(r int, d int) (api.Route, api.Errno) {

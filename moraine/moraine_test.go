@@ -20,6 +20,9 @@ func TestP1NoNetHasNoRouters(t *testing.T) {
 		answers(t, "Again", w.Again(0, 1, 0), api.ErrRouter)
 		answers(t, "Tick", w.Tick(0), api.ErrRouter)
 		answers(t, "Bump", w.Bump(0), api.ErrRouter)
+		answers(t, "Fail", w.Fail(0, 1), api.ErrRouter)
+		answers(t, "Crash", w.Crash(0), api.ErrRouter)
+		answers(t, "Restart", w.Restart(0), api.ErrRouter)
 		_, e := w.Waiting(0, 1)
 		answers(t, "Waiting", e, api.ErrRouter)
 		_, e = w.Route(0, 1)
@@ -45,6 +48,11 @@ func TestP2NetsDoNotChangeOneAnother(t *testing.T) {
 	answers(t, "Again", w.Again(2, 1, 0), api.OK)
 	answers(t, "Lose", w.Lose(2, 1, 1), api.OK)
 	answers(t, "Tick", w.Tick(0), api.OK)
+	answers(t, "Fail", w.Fail(1, 2), api.OK)
+	answers(t, "Dump of one that fails", w.Dump(1), api.ErrDisk)
+	answers(t, "Crash", w.Crash(2), api.OK)
+	answers(t, "Crash", w.Crash(0), api.OK)
+	answers(t, "Restart", w.Restart(0), api.OK)
 	unchanged(t, "another net", v, before)
 }
 
@@ -169,8 +177,8 @@ func TestP4CutKeepsWhatWaits(t *testing.T) {
 
 func TestP5Refusals(t *testing.T) {
 	w := full(t)
-	w.routers[1].Down = true
-	w.routers[1].Fails = 1
+	answers(t, "Crash", w.Crash(1), api.OK)
+	answers(t, "Fail", w.Fail(1, 1), api.OK)
 	before := copyOf(w)
 	for _, s := range strange {
 		answers(t, fmt.Sprint("Dump of none ", s), w.Dump(s), api.ErrRouter)
@@ -181,7 +189,7 @@ func TestP5Refusals(t *testing.T) {
 
 func TestP5GoesToNeighboursAlone(t *testing.T) {
 	w := net(t, 4, [3]int{0, 1, 2}, [3]int{1, 2, 3}, [3]int{1, 3, 1})
-	w.routers[2].Down = true
+	answers(t, "Crash", w.Crash(2), api.OK)
 	answers(t, "Link", w.Link(1, 3, 0), api.OK)
 	answers(t, "Dump", w.Dump(1), api.OK)
 	for a := range 4 {
@@ -254,7 +262,7 @@ func TestP5DiskFails(t *testing.T) {
 	know(w, 0, 3, api.Route{Next: 2, Seq: 2, Metric: api.MaxMetric})
 	know(w, 0, 4, api.Route{Next: 1, Seq: 7, Metric: 8})
 	know(w, 0, 1, api.Route{Next: 2, Seq: 5, Metric: 3, Age: 1})
-	w.routers[0].Fails = 2
+	answers(t, "Fail", w.Fail(0, 2), api.OK)
 	before := copyOf(w)
 	for left := 1; left >= 0; left-- {
 		answers(t, "Dump", w.Dump(0), api.ErrDisk)
@@ -280,7 +288,7 @@ func TestSavingTakesNoOtherPanicForTheDisk(t *testing.T) {
 
 func TestP6(t *testing.T) {
 	w := full(t)
-	w.routers[1].Down = true
+	answers(t, "Crash", w.Crash(1), api.OK)
 	before := copyOf(w)
 	for _, s := range strange {
 		for _, p := range [][2]int{{s, 0}, {0, s}, {s, s}} {
@@ -317,7 +325,7 @@ func asks(t *testing.T, w *Net, r int, d int, want api.Errno) {
 
 func TestP11Refusals(t *testing.T) {
 	w := full(t)
-	w.routers[1].Down = true
+	answers(t, "Crash", w.Crash(1), api.OK)
 	before := copyOf(w)
 	for _, s := range strange {
 		asks(t, w, s, 0, api.ErrRouter)
@@ -334,7 +342,7 @@ func TestP11Refusals(t *testing.T) {
 
 func TestP11Answers(t *testing.T) {
 	w := full(t)
-	w.routers[1].Down = true
+	answers(t, "Crash", w.Crash(1), api.OK)
 	before := copyOf(w)
 	routeIs(t, w, 0, 1, api.Route{Next: 1, Seq: 4})
 	routeIs(t, w, 0, 2, api.Route{Next: 1, Seq: 1, Metric: 3, Age: 2, Stale: 1})

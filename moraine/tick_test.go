@@ -9,8 +9,8 @@ import (
 
 func TestP9TickRefusals(t *testing.T) {
 	w := full(t)
+	answers(t, "Crash", w.Crash(1), api.OK)
 	know(w, 1, 0, api.Route{Next: 0, Seq: 2, Age: 2})
-	w.routers[1].Down = true
 	before := copyOf(w)
 	for _, s := range strange {
 		answers(t, fmt.Sprint("Tick of none ", s), w.Tick(s), api.ErrRouter)

@@ -1,7 +1,6 @@
 package moraine
 
 import (
-	"math/rand"
 	"slices"
 	"testing"
 
@@ -10,7 +9,7 @@ import (
 
 func TestP12Refusals(t *testing.T) {
 	w := full(t)
-	w.routers[1].Down = true
+	answers(t, "Crash", w.Crash(1), api.OK)
 	before := copyOf(w)
 	for _, s := range strange {
 		for _, p := range [][2]int{{s, 0}, {0, s}, {s, s}, {1, s}} {
@@ -53,7 +52,8 @@ func TestP12EndsWhereNoRouteIs(t *testing.T) {
 
 func TestP12EndsWhereOneIsDown(t *testing.T) {
 	w := line(t)
-	w.routers[2].Down = true
+	answers(t, "Crash", w.Crash(2), api.OK)
+	know(w, 2, 4, api.Route{Next: 3, Metric: 4}) // it would not go on even by a route
 	traceIs(t, w, 0, 4, 0, 1, 2)
 	traceIs(t, w, 2, 4, 2)
 	traceIs(t, w, 2, 2, 2)
@@ -82,56 +82,5 @@ func TestP1TraceEndsOnACircle(t *testing.T) {
 	know(w, 1, 2, api.Route{Next: 0})
 	if _, e := w.Trace(0, 2); e != api.OK {
 		t.Errorf("Trace = %d", e)
-	}
-}
-
-// noCircle holds all traces of w against having a router twice.
-func noCircle(t *testing.T, w *Net) {
-	t.Helper()
-	for r := range w.routers {
-		for d := range w.routers {
-			way, e := w.Trace(r, d)
-			once := slices.Compact(slices.Sorted(slices.Values(way)))
-			if e != api.OK || len(once) != len(way) || way[0] != r {
-				t.Fatalf("Trace(%d, %d) = %v, %d", r, d, way, e)
-			}
-		}
-	}
-}
-
-// step makes one call, with numbers that mostly are not refused.
-func step(w *Net, rng *rand.Rand) {
-	n := len(w.routers)
-	a, b := rng.Intn(n), rng.Intn(n)
-	k := rng.Intn(api.MaxWaiting)
-	if waiting, _ := w.Waiting(a, b); waiting > 0 {
-		k = rng.Intn(waiting)
-	}
-	switch rng.Intn(16) {
-	case 0:
-		w.Link(a, b, rng.Intn(4)*rng.Intn(4))
-	case 1:
-		w.Bump(a)
-	case 2:
-		w.Tick(a)
-	case 3:
-		w.Lose(a, b, k)
-	case 4, 5:
-		w.Again(a, b, k)
-	case 6, 7, 8, 9:
-		w.Dump(a)
-	default:
-		w.Deliver(a, b, k)
-	}
-}
-
-func TestNoCircleInAnyOrder(t *testing.T) {
-	for seed := range int64(200) {
-		rng := rand.New(rand.NewSource(seed))
-		w := net(t, 2+rng.Intn(4))
-		for range 400 {
-			step(w, rng)
-			noCircle(t, w)
-		}
 	}
 }

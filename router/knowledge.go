@@ -45,6 +45,26 @@ func (k *Knowledge) dropIfBy(d int, next int) {
 	}
 }
 
+// dropCut drops the routes over links that are cut.
+func (k *Knowledge) dropCut(costs Costs) {
+	for next, cost := range costs {
+		if cost == 0 {
+			k.DropBy(next)
+		}
+	}
+}
+
+// makeStale marks all routes as ones that no neighbour told since they were saved.
+// They become young, as the time while they lay on the disk did not go by for the router.
+func (k *Knowledge) makeStale() {
+	for d := range k.Routes {
+		if k.HasRoute(d) {
+			k.Routes[d].Stale = 1
+			k.Routes[d].Age = 0
+		}
+	}
+}
+
 // Tick makes all routes older, and drops those of which nothing was heard for too long.
 func (k *Knowledge) Tick() {
 	for d := range k.Routes {

@@ -37,3 +37,18 @@ func (r *Router) Bump() api.Errno {
 	r.Seq++
 	return api.OK
 }
+
+// Crash takes the router down; what it did not save is gone.
+func (r *Router) Crash() {
+	r.Knowledge = Blank()
+	r.Down = true
+}
+
+// Restart lets the router come up with what it saved last.
+// As it saves ahead of telling, the saved bests are as good as all that it ever told: its saved routes lead round in no circle.
+func (r *Router) Restart(costs Costs) {
+	r.Knowledge = r.Saved
+	r.Down = false
+	r.dropCut(costs)
+	r.makeStale()
+}

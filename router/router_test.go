@@ -173,3 +173,70 @@ func TestDiskFailsAsOftenAsWasSaid(t *testing.T) {
 		t.Errorf("it failed once more (%v), or did not save: %v", failed, r.Saved)
 	}
 }
+
+// learned is a router that saved something, and learned and failed since.
+func learned() Router {
+	r := Fresh()
+	r.Seq = 5
+	r.Routes[1] = api.Route{Next: 1, Seq: 2, Age: 2}
+	r.Routes[2] = api.Route{Next: 1, Seq: 3, Metric: 4, Stale: 1}
+	r.Routes[3] = api.Route{Next: 4, Seq: 1, Metric: 6, Age: 1}
+	r.Bests[2] = Telling{2, 7}
+	dump(&r, Costs{1: 3, 4: 2}, new(undo.Log))
+	r.Seq = 6
+	r.Routes[1] = noRoute()
+	r.Routes[4] = api.Route{Next: 4, Seq: 9}
+	r.Fails = 2
+	return r
+}
+
+func TestCrashLeavesTheDiskAlone(t *testing.T) {
+	r := learned()
+	want := Router{Knowledge: Blank(), Disk: r.Disk, Down: true}
+	r.Crash()
+	if r != want {
+		t.Errorf("after Crash: %v, want %v", r, want)
+	}
+}
+
+func TestRestart(t *testing.T) {
+	by1 := [api.MaxRouters]api.Route{noRoute(), {Next: 1, Seq: 2, Stale: 1}, {Next: 1, Seq: 3, Metric: 4, Stale: 1}, noRoute(), noRoute()}
+	by4 := [api.MaxRouters]api.Route{noRoute(), noRoute(), noRoute(), {Next: 4, Seq: 1, Metric: 6, Stale: 1}, noRoute()}
+	both := by1
+	both[3] = by4[3]
+	for _, c := range []struct {
+		costs Costs
+		want  [api.MaxRouters]api.Route
+	}{
+		{Costs{1: 3, 4: 2}, both},
+		{Costs{1: 9, 2: 1, 3: 1, 4: 9}, both},
+		{Costs{1: 1, 2: 5}, by1},
+		{Costs{4: 1}, by4},
+		{Costs{}, Blank().Routes},
+	} {
+		r := learned()
+		r.Crash()
+		want := r
+		want.Down = false
+		want.Knowledge = r.Saved
+		want.Routes = c.want
+		r.Restart(c.costs)
+		if r != want {
+			t.Errorf("links %v: after Restart: %v, want %v", c.costs, r, want)
+		}
+		if r.Seq != 5 || r.Bests[1] != (Telling{2, 3}) || r.Bests[2] != (Telling{3, 7}) || r.Bests[4] != Nothing() {
+			t.Errorf("links %v: after Restart: %v", c.costs, r)
+		}
+	}
+}
+
+func TestRestartOfOneThatSavedNothing(t *testing.T) {
+	r := Fresh()
+	r.Bump()
+	r.Routes[1] = api.Route{Next: 1}
+	r.Crash()
+	r.Restart(Costs{1: 1, 2: 1, 3: 1, 4: 1})
+	if r != Fresh() {
+		t.Errorf("after Restart: %v", r)
+	}
+}
